@@ -1,20 +1,13 @@
 import copy
-import decimal
 import itertools
 import math
 import sys
 import unittest
 from fractions import Fraction
 
+from helper import BIG, HUGE, LOW_WEIGHTS, NO_WHOLES, OTHER_LENGTHS, Refusing, pairs, within_itself
 from uprow.costs import greatest, squares, summed_up
 from uprow.errors import BadNumbers, BadRow, BadWeights
-
-BIG = 2 ** 64
-HUGE = 10 ** 5000
-
-
-def pairs(values):
-    return [(Fraction(value).numerator, Fraction(value).denominator) for value in values]
 
 
 def squares_beside(numbers, row, weights):
@@ -23,14 +16,6 @@ def squares_beside(numbers, row, weights):
         total += weight * (number - Fraction(*stand)) ** 2
     return (total.numerator, total.denominator)
 
-
-# Whatever is no list of whole numbers, whatever its length; each stands for a list of two.
-NO_WHOLES = [
-    None, True, False, 0, 2, 2.5, "", "12", b"12", (), (1, 2), {}, {1: 1, 2: 2}, {1, 2}, range(2), iter([1, 2]),
-    object(), int, list, len, Fraction(1, 2), [1, None], [None, 1], [1, True], [False, 1], [1, 2.0], ["1", 2],
-    ["12", "3"], [1, [2]], [[], []], [1, (2, 1)], [(1, 1), (2, 1)], [1, Fraction(2)], [1, decimal.Decimal(2)],
-    [1, 2j], [float("nan"), 1], [1, float("inf")], [1, object()], [1, b"2"], [int, 1],
-]
 
 # Whatever is no list of fractions.
 NO_FRACTIONS = [
@@ -42,9 +27,6 @@ NO_FRACTIONS = [
     [(1, 1), (2.0, 1)], [(1, 1), (2, 1.0)], [(1, 1), ("2", "1")], [(1, 1), (None, 1)], [(1, 1), (2, None)],
     [(1, 1), Fraction(2)], [(1, 1), {2: 1, 1: 1}], [(1, 1), True], [(1, 1), ((2, 1), 1)],
 ]
-
-OTHER_LENGTHS = [[], [1], [1, 2, 3]]
-LOW_WEIGHTS = [[0, 1], [1, 0], [1, -1], [-BIG, 1], [1, -HUGE]]
 
 
 class GreatestChange(unittest.TestCase):
@@ -218,17 +200,7 @@ class NothingChangedOrKept(unittest.TestCase):
         self.assertEqual((numbers, row, weights), ([1, 2], [(1, 1), (2, 1)], [1, 0]))
 
 
-class Refusals(unittest.TestCase):
-    def refused(self, refusal, call, *handed):
-        # The very class is asked for: of two faults, the one told first.
-        with self.subTest(call=call.__name__, refusal=refusal.__name__):
-            try:
-                call(*handed)
-            except Exception as error:
-                self.assertIs(type(error), refusal)
-            else:
-                self.fail("nothing was refused")
-
+class Refusals(Refusing):
     def test_numbers(self):
         for wrong in NO_WHOLES:
             self.refused(BadNumbers, greatest, wrong, [1, 2])
@@ -236,8 +208,7 @@ class Refusals(unittest.TestCase):
             self.refused(BadNumbers, squares, wrong, [(1, 1), (2, 1)], [1, 1])
 
     def test_a_list_within_itself(self):
-        wrong = [1]
-        wrong.append(wrong)
+        wrong = within_itself()
         self.refused(BadNumbers, greatest, wrong, wrong)
         self.refused(BadRow, greatest, [1, 2], wrong)
         self.refused(BadWeights, summed_up, [1, 2], [1, 2], wrong)

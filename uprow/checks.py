@@ -1,6 +1,6 @@
 """What is handed in, checked for its kind, and refused by the class that belongs to it."""
 
-from uprow.errors import BadNumbers, BadRow, BadWeights
+from uprow.errors import BadMost, BadNumbers, BadRow, BadWeights
 from uprow.fractions import common_divisor
 
 
@@ -25,6 +25,22 @@ def is_list_of_fractions(values):
     return isinstance(values, list) and all([is_fraction(value) for value in values])
 
 
+def is_whole_row(numbers, row):
+    return is_list_of_wholes(row) and len(row) == len(numbers)
+
+
+def is_fraction_row(numbers, row):
+    return is_list_of_fractions(row) and len(row) == len(numbers)
+
+
+def are_weights(numbers, weights):
+    return is_whole_row(numbers, weights) and min(weights, default=1) >= 1
+
+
+def is_most(most):
+    return is_whole(most) and most >= 0
+
+
 # The errors' words show no value: Python fails to write out a very long number, and the refusal would be lost.
 
 
@@ -34,17 +50,20 @@ def check_numbers(numbers):
 
 
 def check_whole_row(numbers, row):
-    if not is_list_of_wholes(row) or len(row) != len(numbers):
+    if not is_whole_row(numbers, row):
         raise BadRow("the row is a list of as many whole numbers as there are numbers")
 
 
 def check_fraction_row(numbers, row):
-    if not is_list_of_fractions(row) or len(row) != len(numbers):
+    if not is_fraction_row(numbers, row):
         raise BadRow("the row is a list of as many fractions in lowest terms as there are numbers")
 
 
 def check_weights(numbers, weights):
-    if not is_list_of_wholes(weights) or len(weights) != len(numbers):
-        raise BadWeights("weights are a list of as many whole numbers as there are numbers")
-    if min(weights, default=1) < 1:
-        raise BadWeights("each weight is from 1 on")
+    if not are_weights(numbers, weights):
+        raise BadWeights("weights are a list of as many whole numbers as there are numbers, each from 1 on")
+
+
+def check_most(most):
+    if not is_most(most):
+        raise BadMost("the most is a whole number from 0 on")
